@@ -1,0 +1,1 @@
+"""Keyriders: programs of keyed exchanges, and a writer of programs from tables."""

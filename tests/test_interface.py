@@ -1,0 +1,26 @@
+"""Each function of the interface stands in its file, with the arguments that are told."""
+
+import importlib
+import inspect
+import unittest
+
+FUNCTIONS = {
+    "lots": {
+        "lot_error": ["n", "value"], "lots_of": ["n", "size"], "all_lots": ["n"], "lot_number": ["n", "lot"],
+        "lot_at": ["n", "number"],
+    },
+}
+
+
+class InterfaceTest(unittest.TestCase):
+    def test_each_function_is_defined_in_its_file_with_its_arguments(self):
+        for name, functions in FUNCTIONS.items():
+            module = importlib.import_module("keyriders." + name)
+            for function, arguments in functions.items():
+                call = getattr(module, function)
+                self.assertEqual(call.__module__, "keyriders." + name, function)
+                parameters = inspect.signature(call).parameters.values()
+                self.assertEqual([parameter.name for parameter in parameters], arguments, function)
+                for parameter in parameters:
+                    self.assertIs(parameter.kind, inspect.Parameter.POSITIONAL_OR_KEYWORD, function)
+                    self.assertIs(parameter.default, inspect.Parameter.empty, function)

@@ -1,0 +1,13 @@
+"""What README.md shows is what the package does."""
+
+import doctest
+import unittest
+from pathlib import Path
+
+
+class ReadmeTest(unittest.TestCase):
+    def test_its_examples(self):
+        path = Path(__file__).resolve().parent.parent / "README.md"
+        result = doctest.testfile(str(path), module_relative=False)
+        self.assertEqual(result.failed, 0)
+        self.assertGreater(result.attempted, 0)
