@@ -9,6 +9,13 @@ FUNCTIONS = {
         "lot_error": ["n", "value"], "lots_of": ["n", "size"], "all_lots": ["n"], "lot_number": ["n", "lot"],
         "lot_at": ["n", "number"],
     },
+    "standings": {"standing_error": ["n", "value"], "keys_of": ["standing"]},
+    "standingtexts": {"standing_text": ["standing"], "read_standing": ["n", "value"]},
+    "deeds": {"deed_error": ["n", "value"], "done": ["standing", "deed"]},
+    "programs": {
+        "program_error": ["n", "value"], "length": ["program"], "kinds_of": ["program"], "joined": ["one", "other"],
+        "backward": ["program"],
+    },
 }
 
 
