@@ -1,8 +1,10 @@
 """What the tests share."""
 
 import copy
+import random
 import signal
 from contextlib import contextmanager
+from itertools import combinations
 
 
 def nested(value, deep, wrap):
@@ -76,3 +78,42 @@ def check_raise(test, call, kind, fields, **named):
         test.assertIs(type(error), kind)
         test.assertEqual({name: getattr(error, name) for name in fields}, fields)
     test.assertEqual(named, before)
+
+
+def lots_by_size(n):
+    """Return the list, for each size, of the lots of n."""
+    return [list(combinations(range(n), size)) for size in range(n + 1)]
+
+
+def some_tables(n, many, seed):
+    """Return drawn tables of n: each lot goes anywhere among those of its size, and its riders as they like."""
+    chance = random.Random(seed)
+    return [_drawn_table(n, chance) for _ in range(many)]
+
+
+def _drawn_table(n, chance):
+    entries = []
+    for lots in lots_by_size(n):
+        for lot, aim in zip(lots, chance.sample(lots, len(lots))):
+            free = [place for place in range(n) if place not in aim]
+            chance.shuffle(free)
+            entries.append(tuple([-1 if place in lot else free.pop() for place in range(n)]))
+    return tuple(entries)
+
+
+def led_by(n, table, standing):
+    """Return what a table makes of a standing, found rider by rider."""
+    lots = [lot for lots in lots_by_size(n) for lot in lots]
+    entry = table[lots.index(tuple([place for place in range(n) if standing[place] == 0]))]
+    behind = {entry[place]: standing[place] for place in range(n) if standing[place] > 0}
+    return tuple([behind.get(place, 0) for place in range(n)])
+
+
+def table_by(n, leads):
+    """Return the table of what leads does to standings, lot by lot."""
+    entries = []
+    for lots in lots_by_size(n):
+        for lot in lots:
+            behind = leads(tuple([0 if place in lot else 50 + place for place in range(n)]))
+            entries.append(tuple([-1 if place in lot else behind.index(50 + place) for place in range(n)]))
+    return tuple(entries)

@@ -16,6 +16,13 @@ FUNCTIONS = {
         "program_error": ["n", "value"], "length": ["program"], "kinds_of": ["program"], "joined": ["one", "other"],
         "backward": ["program"],
     },
+    "runs": {"run": ["n", "program", "standing"]},
+    "programtexts": {"program_text": ["program"], "read_program": ["n", "value"]},
+    "tables": {
+        "goal": ["n", "entry"], "table_error": ["n", "value"], "still": ["n"], "deed_table": ["n", "deed"],
+        "exchange_of": ["n", "table"], "both": ["n", "one", "other"], "undone": ["n", "table"],
+        "power": ["n", "table", "k"], "order_of": ["n", "table"],
+    },
 }
 
 
