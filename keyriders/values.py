@@ -1,4 +1,4 @@
-"""What the other modules ask of single values, and of numbers in texts."""
+"""What the other modules ask of single values, of numbers in texts, and of kinds."""
 
 
 def is_between(value, least, most):
@@ -20,3 +20,8 @@ def read_number(text, most):
     if number > most or str(number) != text:
         return None
     return number
+
+
+def least_kind(kinds):
+    """Return the least of some kinds that is above 0, None if there is none."""
+    return min([kind for kind in kinds if kind > 0], default=None)

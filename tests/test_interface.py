@@ -23,6 +23,14 @@ FUNCTIONS = {
         "exchange_of": ["n", "table"], "both": ["n", "one", "other"], "undone": ["n", "table"],
         "power": ["n", "table", "k"], "order_of": ["n", "table"],
     },
+    "doing": {"table_of": ["n", "program"], "led": ["n", "table", "standing"]},
+    "signs": {
+        "signs_of": ["n", "table"], "kind_signs": ["n", "k"], "program_signs": ["n", "program"], "kinds_in": ["n", "row"],
+    },
+    "sizes": {"all_count": ["n"], "table_count": ["n", "kinds"]},
+    "rings": {
+        "ring_program": ["n", "kinds", "lot", "a", "b", "d"], "pair_program": ["n", "kinds", "lot", "a", "b", "c", "d"],
+    },
 }
 
 

@@ -244,7 +244,7 @@ class ProgramTextTest(unittest.TestCase):
     def test_thousands_of_signs_are_answered_quickly(self):
         with within(20):
             for sign in ("(", ")", "~", "1*", "0*", "1", "0", "9", "#", ",", ":", "-", "*", ";", " ", "\n", "()", "() ", "(()",
-                         "~(", "#0 ", "0,", "0:1-2", "0:1-2 ", "0:1-2;", "();", "#0;", "1*(", "~1*", "(~", "1,", "((() ", "x"):
+                         "~(", "#0 ", "0,", "0:1-2", "0:1-2 ", "0:1-2;", "();", "#0;", "1*(", "~1*", "(~", "1,", "((() ", "(() ", "x"):
                 value = sign * (20000 // len(sign))
                 self.check_bad(5, value, "()" + value, value + "()", "(" + value + ")", "();" + value, value + ";()",
                                "();#" + value, value + "*()", value + ":0-1", "0:1-" + value, ":" + value + "-4")

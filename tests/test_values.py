@@ -2,7 +2,7 @@
 
 import unittest
 
-from keyriders.values import is_between, is_tuple_of, read_number
+from keyriders.values import is_between, is_tuple_of, least_kind, read_number
 from tests.helper import VALUES
 
 
@@ -25,3 +25,7 @@ class ValuesTest(unittest.TestCase):
                     self.assertIsNone(read_number(text, most), text)
             for text in ("", " ", "x", "00", "1.", "\u0663", "\u00b2", "9" * 20000, "0" * 20000):
                 self.assertIsNone(read_number(text, most), text)
+
+    def test_least_kind(self):
+        for kinds, told in (((0,), None), ((0, 1), 1), ((1,), 1), ((0, 3), 3), ((2, 3, 4), 2), ((0, 2, 5), 2), ((8,), 8)):
+            self.assertEqual(least_kind(kinds), told)
