@@ -10,26 +10,26 @@ class TableMeasure:
     """The table of what is done, for n places."""
 
     def __init__(self, n):
-        self.n = n
+        self._n = n
 
     def of_deed(self, deed):
         """Return the table of a deed."""
-        return deed_table(self.n, deed)
+        return deed_table(self._n, deed)
 
     def of_row(self, worths):
         """Return the table of terms done one behind another."""
-        table = still(self.n)
+        table = still(self._n)
         for worth in worths:
-            table = both(self.n, table, worth)
+            table = both(self._n, table, worth)
         return table
 
     def of_back(self, worth):
         """Return the table of what is undone."""
-        return undone(self.n, worth)
+        return undone(self._n, worth)
 
     def of_times(self, worth, k):
         """Return the table of what is done k times."""
-        return power(self.n, worth, k)
+        return power(self._n, worth, k)
 
 
 def table_of(n, program):

@@ -45,6 +45,12 @@ def lot_number(n, lot):
     return number
 
 
+def numbers_of(n, size):
+    """Return the list of the numbers of all lots of n with so many places."""
+    first = lot_number(n, tuple(range(size)))
+    return list(range(first, first + comb(n, size)))
+
+
 def lot_at(n, number):
     """Return the lot of n with a number."""
     if number < 0:

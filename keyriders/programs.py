@@ -60,11 +60,11 @@ def program_worth(program, measure):
     # A part may be done more often than could ever be walked through: so each term is measured once.
     worths = []
     for term in program:
-        worths.append(_term_worth(term, worths, measure))
+        worths.append(term_worth(term, worths, measure))
     return worths[-1]
 
 
-def _term_worth(term, worths, measure):
+def term_worth(term, worths, measure):
     """Return the worth of a term, worths being those of the terms ahead of it."""
     word = term[0]
     if word == "do":
@@ -72,8 +72,8 @@ def _term_worth(term, worths, measure):
     if word == "part":
         return worths[term[1]]
     if word == "row":
-        return measure.of_row([_term_worth(inner, worths, measure) for inner in term[1]])
-    worth = _term_worth(term[1], worths, measure)
+        return measure.of_row([term_worth(inner, worths, measure) for inner in term[1]])
+    worth = term_worth(term[1], worths, measure)
     if word == "back":
         return measure.of_back(worth)
     return measure.of_times(worth, term[2])
@@ -137,20 +137,21 @@ def joined(one, other):
     many = len(one) + len(other)
     if many >= MAX_TERMS:
         raise TooMany(MAX_TERMS)
-    behind = tuple([_with_parts_further(term, len(one)) for term in other])
+    spots = list(range(len(one), many))
+    behind = tuple([with_parts_at(term, spots) for term in other])
     return one + behind + (("row", (("part", len(one) - 1), ("part", many - 1))),)
 
 
-def _with_parts_further(term, by):
-    """Return a term with all its parts so many places further on."""
+def with_parts_at(term, spots):
+    """Return a term with ("part", spots[g]) in place of each ("part", g) in it."""
     word = term[0]
     if word == "do":
         return term
     if word == "part":
-        return ("part", term[1] + by)
+        return ("part", spots[term[1]])
     if word == "row":
-        return ("row", tuple([_with_parts_further(inner, by) for inner in term[1]]))
-    return (word, _with_parts_further(term[1], by)) + term[2:]
+        return ("row", tuple([with_parts_at(inner, spots) for inner in term[1]]))
+    return (word, with_parts_at(term[1], spots)) + term[2:]
 
 
 def backward(program):

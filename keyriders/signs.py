@@ -2,29 +2,23 @@
 
 from math import comb
 
-from keyriders.lots import lots_of
+from keyriders.lots import numbers_of
 from keyriders.programs import program_worth
-from keyriders.tables import goal
+from keyriders.tables import aims_of
 
 
 def signs_of(n, table):
     """Return the row of a table."""
+    aims = aims_of(n, table)
     row = []
-    first = 0
     for size in range(n + 1):
-        entries = table[first:first + comb(n, size)]
-        row.append((_lots_sign(n, size, entries), _carryings_sign(entries)))
-        first += len(entries)
+        numbers = numbers_of(n, size)
+        s = sign_of([aims[number] for number in numbers])
+        row.append((s, carryings_sign([table[number] for number in numbers])))
     return tuple(row)
 
 
-def _lots_sign(n, size, entries):
-    """Return the sign of how the lots of a size go to their goals."""
-    spots = {lot: spot for spot, lot in enumerate(lots_of(n, size))}
-    return sign_of([spots[goal(n, entry)] for entry in entries])
-
-
-def _carryings_sign(entries):
+def carryings_sign(entries):
     """Return the sum modulo 2 of the signs of the carryings of some entries."""
     return sum([sign_of([place for place in entry if place != -1]) for entry in entries]) % 2
 
@@ -50,15 +44,15 @@ class SignsMeasure:
     """The row of the table of what is done, for n places."""
 
     def __init__(self, n):
-        self.n = n
+        self._n = n
 
     def of_deed(self, deed):
         """Return the row of a deed."""
-        return kind_signs(self.n, len(deed[0]))
+        return kind_signs(self._n, len(deed[0]))
 
     def of_row(self, worths):
         """Return the row of terms done one behind another."""
-        return sum_of_rows(self.n, worths)
+        return sum_of_rows(self._n, worths)
 
     def of_back(self, worth):
         """Return the row of what is undone."""
@@ -66,7 +60,7 @@ class SignsMeasure:
 
     def of_times(self, worth, k):
         """Return the row of what is done k times."""
-        return sum_of_rows(self.n, [worth] if k % 2 == 1 else [])
+        return sum_of_rows(self._n, [worth] if k % 2 == 1 else [])
 
 
 def sum_of_rows(n, rows):

@@ -7,16 +7,16 @@ from keyriders.values import least_kind
 
 def all_count(n):
     """Return how many tables of n there are."""
-    return _product([_ways_of_size(n, size) for size in range(n + 1)])
+    return product_of([_ways_of_size(n, size) for size in range(n + 1)])
 
 
 def _ways_of_size(n, size):
     """Return in how many ways a table may lead the lots of a size."""
     many = comb(n, size)
-    return factorial(many) * _product([factorial(n - size)] * many)
+    return factorial(many) * product_of([factorial(n - size)] * many)
 
 
-def _product(numbers):
+def product_of(numbers):
     """Return the product of some numbers."""
     result = 1
     for number in numbers:
@@ -34,7 +34,7 @@ def table_count(n, kinds):
 def _keyed_count(n, j, others):
     """Return how many tables there are with a program of the kind j and so many greater ones."""
     # The signs of lots of more than j places are told by the lesser lots, but for each kind above j.
-    count = _product([factorial(n - j)] * comb(n, j))
+    count = product_of([factorial(n - j)] * comb(n, j))
     for size in range(j + 1, n - 1):
         count = count * (_ways_of_size(n, size) // 4)
-    return count * (factorial(n) // 2) * _product([2] * others)
+    return count * (factorial(n) // 2) * product_of([2] * others)

@@ -43,7 +43,12 @@ def is_entry(n, lot, value):
 
 def still(n):
     """Return the table all of whose entries are still."""
-    return tuple([_entry_by(lot, list(range(n))) for lot in all_lots(n)])
+    return ways_table(n, list(range(n)))
+
+
+def ways_table(n, ways):
+    """Return the table that leads what lies at each place as ways tell, wherever the keys lie."""
+    return tuple([_entry_by(lot, ways) for lot in all_lots(n)])
 
 
 def _entry_by(lot, ways):
@@ -72,22 +77,39 @@ def exchange_of(n, table):
 
 def both(n, one, other):
     """Return the table that does what one does, and then what other does."""
-    numbers = _numbers_of_lots(n)
     entries = []
-    for entry in one:
-        onward = other[numbers[goal(n, entry)]]
+    for aim, entry in zip(aims_of(n, one), one):
+        onward = other[aim]
         entries.append(tuple([-1 if place == -1 else onward[place] for place in entry]))
     return tuple(entries)
 
 
-def _numbers_of_lots(n):
+def numbers_of_lots(n):
     """Return the dict that gives each lot its number."""
     return {lot: number for number, lot in enumerate(all_lots(n))}
 
 
 def undone(n, table):
     """Return the table that leads all that a table does back."""
-    return power(n, table, -1)
+    entries = [()] * len(table)
+    for aim, entry in zip(aims_of(n, table), table):
+        entries[aim] = turned_back(entry)
+    return tuple(entries)
+
+
+def aims_of(n, table):
+    """Return the list of the numbers of the goals of all lots."""
+    numbers = numbers_of_lots(n)
+    return [numbers[goal(n, entry)] for entry in table]
+
+
+def turned_back(entry):
+    """Return the entry that leads all riders of an entry back."""
+    back = [-1] * len(entry)
+    for place, way in enumerate(entry):
+        if way != -1:
+            back[way] = place
+    return tuple(back)
 
 
 def power(n, table, k):
@@ -118,7 +140,7 @@ def _circles(n, table):
     A pair is the number of the lot where the keys lie, and the place of one rider.
     """
     # However often a table is done, a rider at a lot only goes on along its circle.
-    steps = _steps(n, table)
+    steps = steps_of(n, table)
     met = {}
     circles = []
     for start in steps:
@@ -133,13 +155,12 @@ def _circles(n, table):
     return circles
 
 
-def _steps(n, table):
+def steps_of(n, table):
     """Return the dict that gives each pair of the number of a lot and the place of a rider the pair behind it."""
-    numbers = _numbers_of_lots(n)
+    aims = aims_of(n, table)
     steps = {}
     for number, entry in enumerate(table):
-        aim = numbers[goal(n, entry)]
         for place, way in enumerate(entry):
             if way != -1:
-                steps[number, place] = (aim, way)
+                steps[number, place] = (aims[number], way)
     return steps

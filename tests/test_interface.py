@@ -31,6 +31,12 @@ FUNCTIONS = {
     "rings": {
         "ring_program": ["n", "kinds", "lot", "a", "b", "d"], "pair_program": ["n", "kinds", "lot", "a", "b", "c", "d"],
     },
+    "writing": {"written": ["n", "kinds", "table"]},
+    "barring": {"paper_holds": ["n", "kinds", "table", "value"]},
+    "parttables": {
+        "part_error": ["n", "value"], "told_signs": ["n", "part"], "finished": ["n", "kinds", "part"],
+        "part_holds": ["n", "kinds", "part", "value"], "finish_count": ["n", "kinds", "part"],
+    },
 }
 
 
