@@ -1,6 +1,7 @@
 """The form of the package's files: sizes, characters, imports, and the few words that every file has to avoid."""
 
 import ast
+import builtins
 import unittest
 from pathlib import Path
 
@@ -10,11 +11,11 @@ LIBRARY = {"math": {"comb", "gcd", "lcm", "isqrt", "perm", "factorial"}}
 BUILTINS = {
     "len", "range", "enumerate", "zip", "min", "max", "sum", "abs", "sorted", "reversed", "int", "str", "bool",
     "list", "tuple", "dict", "set", "isinstance", "ord", "repr", "any", "all", "divmod",
-    "ValueError", "TypeError", "KeyError",
+    "ValueError", "TypeError", "KeyError", "iter", "property",
 }
 BARRED = (
-    ast.Global, ast.AsyncFunctionDef, ast.Await, ast.Div, ast.GeneratorExp, ast.Yield, ast.YieldFrom, ast.Try,
-    ast.With, ast.Match, ast.NamedExpr,
+    ast.Global, ast.AsyncFunctionDef, ast.Await, ast.Div, ast.GeneratorExp, ast.Yield, ast.YieldFrom,
+    ast.With, ast.Match, ast.NamedExpr, ast.Lambda,
 )
 
 
@@ -41,7 +42,7 @@ class FormTest(unittest.TestCase):
             for node in ast.walk(tree):
                 if isinstance(node, ast.FunctionDef):
                     self.assertLessEqual(node.end_lineno - node.lineno + 1, 40, (path, node.name))
-                    self.assertEqual(node.decorator_list, [], (path, node.name))
+                    self.assertLessEqual({ast.unparse(part) for part in node.decorator_list}, {"property"}, (path, node.name))
 
     def test_imports(self):
         for path, tree in trees():
@@ -63,6 +64,61 @@ class FormTest(unittest.TestCase):
                 self.assertNotIsInstance(node, BARRED, path)
                 if isinstance(node, ast.Constant):
                     self.assertNotIsInstance(node.value, float, path)
+
+    def test_just_own_errors_are_caught(self):
+        own = defined(PACKAGE / "errors.py")
+        for path, tree in trees():
+            for node in ast.walk(tree):
+                if isinstance(node, ast.Try):
+                    self.assertEqual((len(node.handlers), node.finalbody), (1, []), path)
+                    self.assertIn(node.handlers[0].type.id, own, path)
+                if isinstance(node, ast.Raise) and node.exc is not None:
+                    self.assertIn(node.exc.func.id, own, path)
+
+    def test_no_attribute_has_the_name_of_a_property_or_of_a_method(self):
+        told = set()
+        for _, tree in trees():
+            for node in ast.walk(tree):
+                if isinstance(node, ast.ClassDef):
+                    told.update(part.name for part in node.body if isinstance(part, ast.FunctionDef))
+        for path, tree in trees():
+            for node in ast.walk(tree):
+                if isinstance(node, ast.Attribute) and isinstance(node.ctx, ast.Store):
+                    self.assertNotIn(node.attr, told, path)
+
+    def test_no_set_is_added_to(self):
+        # A bench has a method of this name: so no set may be changed by it.
+        for path, tree in trees():
+            for node in ast.walk(tree):
+                if isinstance(node, ast.Attribute) and node.attr in ("add", "discard"):
+                    self.assertEqual(ast.unparse(node), "bench.add", path)
+
+    def test_sets_stand_in_single_places_alone(self):
+        for path, tree in trees():
+            for node in ast.walk(tree):
+                self.assertNotIsInstance(node, (ast.Set, ast.SetComp), path)
+                if isinstance(node, (ast.Assign, ast.Return, ast.For)):
+                    value = node.iter if isinstance(node, ast.For) else node.value
+                    self.assertFalse(isinstance(value, ast.Call) and ast.unparse(value.func) == "set", path)
+
+    def test_no_local_name_is_that_of_an_import_or_a_class(self):
+        for path, tree in trees():
+            told = {alias.name for node in tree.body if isinstance(node, ast.ImportFrom) for alias in node.names}
+            told.update(node.name for node in tree.body if isinstance(node, (ast.ClassDef, ast.FunctionDef)))
+            for node in ast.walk(tree):
+                if isinstance(node, ast.arg):
+                    self.assertNotIn(node.arg, told, path)
+                if isinstance(node, ast.Name) and isinstance(node.ctx, ast.Store):
+                    self.assertNotIn(node.id, told, path)
+                    self.assertNotIn(node.id, dir(builtins), path)
+
+    def test_imports_do_not_go_round(self):
+        reached = {path.stem: {node.module.split(".")[1] for node in tree.body if isinstance(node, ast.ImportFrom)
+                               and node.module.startswith("keyriders.")} for path, tree in trees()}
+        for _ in reached:
+            reached = {name: others.union(*[reached[other] for other in others]) for name, others in reached.items()}
+        for name, others in reached.items():
+            self.assertNotIn(name, others)
 
     def test_names_that_are_not_defined_are_plain_builtins(self):
         for path, tree in trees():

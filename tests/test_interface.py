@@ -37,7 +37,21 @@ FUNCTIONS = {
         "part_error": ["n", "value"], "told_signs": ["n", "part"], "finished": ["n", "kinds", "part"],
         "part_holds": ["n", "kinds", "part", "value"], "finish_count": ["n", "kinds", "part"],
     },
+    "blanks": {
+        "goals_of": ["n", "table"], "blank_written": ["n", "kinds", "goals"], "blank_holds": ["n", "kinds", "goals", "value"],
+    },
+    "asking": {"asked": ["n", "table"], "fewest_kinds": ["n", "table"], "why_needed": ["n", "table", "k"]},
 }
+METHODS = {
+    ("benches", "Bench"): {
+        "__init__": ["n"], "__len__": [], "__getitem__": ["name"], "__iter__": [], "__eq__": ["other"], "add": ["name", "program"],
+        "drop": ["name"], "call": ["name", "other"], "put": ["name", "spot", "term"], "more": ["name", "term"], "batch": ["edits"],
+        "table": ["name"], "led": ["name", "standing"], "alike": ["name", "other"], "undo": [], "redo": [], "at": ["version"],
+        "copy": [], "attempt": ["work"],
+    },
+    ("shells", "Shell"): {"__init__": ["n"], "say": ["line"]},
+}
+PROPERTIES = {("benches", "Bench"): ["n", "shelf", "version", "log", "made"]}
 
 
 class InterfaceTest(unittest.TestCase):
@@ -47,8 +61,26 @@ class InterfaceTest(unittest.TestCase):
             for function, arguments in functions.items():
                 call = getattr(module, function)
                 self.assertEqual(call.__module__, "keyriders." + name, function)
-                parameters = inspect.signature(call).parameters.values()
-                self.assertEqual([parameter.name for parameter in parameters], arguments, function)
-                for parameter in parameters:
-                    self.assertIs(parameter.kind, inspect.Parameter.POSITIONAL_OR_KEYWORD, function)
-                    self.assertIs(parameter.default, inspect.Parameter.empty, function)
+                self.check_arguments(call, arguments)
+
+    def check_arguments(self, call, arguments):
+        """Check that a call takes just these arguments, by place or by name."""
+        parameters = inspect.signature(call).parameters.values()
+        self.assertEqual([parameter.name for parameter in parameters], arguments, call)
+        for parameter in parameters:
+            self.assertIs(parameter.kind, inspect.Parameter.POSITIONAL_OR_KEYWORD, call)
+            self.assertIs(parameter.default, inspect.Parameter.empty, call)
+
+    def test_each_method_is_defined_in_its_class_with_its_arguments(self):
+        for (name, kind), methods in METHODS.items():
+            found = getattr(importlib.import_module("keyriders." + name), kind)
+            self.assertEqual(found.__module__, "keyriders." + name)
+            for method, arguments in methods.items():
+                self.check_arguments(vars(found)[method], ["self"] + arguments)
+
+    def test_each_property_can_only_be_read(self):
+        for (name, kind), properties in PROPERTIES.items():
+            found = getattr(importlib.import_module("keyriders." + name), kind)
+            for told in properties:
+                self.assertIsInstance(vars(found)[told], property)
+                self.assertIsNone(vars(found)[told].fset, told)
