@@ -55,7 +55,8 @@ def paper_among(n, kinds, told, row):
     moved = _moved_numbers(n, kinds, told)
     if moved != []:
         return ("moved", lot_at(n, moved[0]))
-    return None if least_kind(kinds) is None else signs_paper(n, kinds, row)
+    # Of the kind 0 alone all lots stay, so that no sign is odd.
+    return signs_paper(n, kinds, row)
 
 
 def signs_paper(n, kinds, row):

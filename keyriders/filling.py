@@ -44,17 +44,19 @@ def entries_to(n, size, told, aims, t):
     for number, aim in zip(numbers, aims):
         entries.append(told[number] if number in told else _entry_to(n, lot_at(n, number), lot_at(n, aim)))
     if carryings_sign(entries) != t:
-        spot = [spot for spot, number in enumerate(numbers) if number not in told][0]
-        entries[spot] = _with_two_exchanged(entries[spot])
+        # One of them is untold, or else the sign would be told.
+        first = [spot for spot, number in enumerate(numbers) if number not in told][0]
+        entries[first] = _with_two_exchanged(entries[first])
     return entries
 
 
 def _entry_to(n, lot, aim):
     """Return the entry that leads a lot to its goal, and its riders in their order."""
     entry = [-1] * n
-    free = [place for place in range(n) if place not in lot]
-    for place, way in zip(free, [way for way in range(n) if way not in aim]):
-        entry[place] = way
+    starts = [place for place in range(n) if place not in lot]
+    ends = [place for place in range(n) if place not in aim]
+    for start, end in zip(starts, ends):
+        entry[start] = end
     return tuple(entry)
 
 

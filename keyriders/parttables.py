@@ -1,6 +1,6 @@
 """Part tables: tables told in part, and how they can be finished."""
 
-from math import comb, factorial
+from math import factorial
 
 from keyriders.barring import is_paper, paper_among
 from keyriders.errors import Barred

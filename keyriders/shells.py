@@ -49,7 +49,7 @@ def _answer(bench, line):
     if word in OF_NAMES and text != "" and " " not in text:
         answer = OF_NAMES[word]
         return answer(bench, name, text)
-    if word in OF_TEXT and blank != "":
+    if word in OF_TEXT:
         answer = OF_TEXT[word]
         return answer(bench, name, text)
     return WHAT

@@ -9,14 +9,15 @@ from keyriders.values import is_between, is_tuple_of
 
 def bars(n, kinds, row, value):
     """Return whether value is a tuple of told spots that are even together for each kind above 0, and odd for a row."""
+    # No spots at all are even for the row, too.
     if not _are_told_spots(n, row, value) or _sum_at(row, value) == 0:
         return False
     return all([_sum_at(kind_signs(n, k), value) == 0 for k in kinds if k > 0])
 
 
 def _are_told_spots(n, row, value):
-    """Return whether value is an ascending tuple, not (), of spots that a row tells."""
-    if not isinstance(value, tuple) or value == ():
+    """Return whether value is an ascending tuple of spots that a row tells."""
+    if not isinstance(value, tuple):
         return False
     for item in value:
         if not is_tuple_of(item, 2) or not is_between(item[0], 0, n) or not is_between(item[1], 0, 1):
@@ -40,11 +41,11 @@ def unmet_spots(n, kinds, row):
 
 
 def met_kinds(n, kinds, row):
-    """Return some of the kinds above 0 whose rows have a sum that meets a row where this is told."""
+    """Return some of the kinds above 0 whose rows have a sum that meets a row where this is told, if there are such."""
     # An equation may hold the first kinds of those behind it, but of none ahead: so the last one is met first.
     met = []
     for _, odd, sign in _equations(n, kinds, row)[::-1]:
-        if odd != [] and sum([1 for k in odd if k in met]) % 2 != sign:
+        if sum([1 for k in odd if k in met]) % 2 != sign:
             met.append(odd[0])
     return tuple(sorted(met))
 

@@ -18,7 +18,8 @@ def written(n, kinds, table):
     paper = paper_of(n, kinds, table)
     if paper is not None:
         raise Barred(paper)
-    terms = _exchange_terms(exchange_of(n, table)) if 0 in kinds else ()
+    # If 0 is not among kinds there is no exchange.
+    terms = _exchange_terms(exchange_of(n, table))
     j = least_kind(kinds)
     if j is None:
         return (("row", terms),)

@@ -166,13 +166,18 @@ def spots_bar(n, kinds, row, value):
 
 def is_paper_by_words(n, kinds, table, value):
     """Return whether value is a paper of kinds and a table, by [E6]."""
+    core = core_by_words(n, kinds, table)
+    return is_paper_of(n, kinds, moved_by_words(n, kinds, core), counted_signs(n, core), value)
+
+
+def is_paper_of(n, kinds, moved, row, value):
+    """Return whether value is a paper of one of some lots that are moved, or of told signs of a row."""
     if not is_plain(value, tuple) or len(value) != 2 or not is_plain(value[0], str):
         return False
-    core = core_by_words(n, kinds, table)
     if value[0] == "moved":
-        lots = [lot for lot in moved_by_words(n, kinds, core) if lot == value[1]]
+        lots = [lot for lot in moved if lot == value[1]]
         return len(lots) == 1 and [type(place) for place in value[1]] == [int] * len(lots[0])
-    return value[0] == "signs" and least_above(kinds) is not None and spots_bar(n, kinds, counted_signs(n, core), value[1])
+    return value[0] == "signs" and least_above(kinds) is not None and spots_bar(n, kinds, row, value[1])
 
 
 def all_spots(n):

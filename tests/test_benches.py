@@ -591,6 +591,14 @@ class MadeTest(BenchTest):
         b.table("d")
         self.assertEqual((other.made, b.made), (6, 5))
 
+    def test_copies_know_the_tables_of_parts(self):
+        deed, other = ("do", DEED), ("do", ((1,), 2, 3))
+        b = bench_of(5, a=(deed, other, ("times", ("part", 0), 3)), b=(other, ("times", ("part", 0), 3)), c=(deed, ("times", ("part", 0), 3)))
+        b.table("a")
+        again = b.copy()
+        self.assertEqual((again.table("b"), again.made, again.table("c"), again.made), (deed_table(5, other[1]), 4, deed_table(5, DEED), 4))
+        self.assertEqual((b.table("b"), b.made), (deed_table(5, other[1]), 4))
+
     def test_what_is_raised_makes_nothing(self):
         b = bench_of(5, a=RING)
         for call, args in ((b.led, ("a", None)), (b.alike, ("a", "b")), (b.alike, ("b", "a")), (b.table, ("b",)), (b.led, ("b", (0,) * 5))):

@@ -10,8 +10,8 @@ from keyriders.programs import kinds_of, program_error
 from keyriders.tables import both, deed_table, still
 from tests.helper import VALUES, check_call, check_raise, raised, some_tables
 from tests.tabled import (
-    all_spots, barring_spots, chance_of, deeds_table, dense_table, drawn_spots, goal_of, lots_round, riders_round,
-    sorts_of_tables, spots_bar, sums_of_kinds, twisted,
+    all_spots, barring_spots, chance_of, deeds_table, dense_table, drawn_spots, goal_of, is_paper_of, lots_round,
+    riders_round, sorts_of_tables, sums_of_kinds, twisted,
 )
 from tests.test_parttables import kinds_above
 from tests.test_signs import counted_signs
@@ -55,12 +55,7 @@ def moved_by_words(n, kinds, goals):
 
 def is_paper_by_words(n, kinds, goals, value):
     """Return whether value is a paper of kinds and goals, by [F6]."""
-    if type(value) is not tuple or len(value) != 2 or type(value[0]) is not str:
-        return False
-    if value[0] == "moved":
-        lots = [lot for lot in moved_by_words(n, kinds, goals) if lot == value[1]]
-        return len(lots) == 1 and all(type(place) is int for place in value[1])
-    return value[0] == "signs" and spots_bar(n, kinds, goals_row(n, goals), value[1])
+    return is_paper_of(n, kinds, moved_by_words(n, kinds, goals), goals_row(n, goals), value)
 
 
 def can_be_written(n, kinds, goals):

@@ -14,8 +14,8 @@ from keyriders.tables import both, deed_table, still, table_error
 from keyriders.writing import written
 from tests.helper import VALUES, check_call, check_raise, raised, some_tables
 from tests.tabled import (
-    all_spots, barring_spots, can_be_written, chance_of, deeds_table, drawn_spots, entry_to, goal_of, lots_round, odd_at,
-    riders_round, sorts_of_tables, spots_bar, sums_of_kinds, twisted,
+    all_spots, barring_spots, can_be_written, chance_of, deeds_table, drawn_spots, entry_to, goal_of, is_paper_of,
+    lots_round, odd_at, riders_round, sorts_of_tables, sums_of_kinds, twisted,
 )
 from tests.test_signs import counted_signs
 from tests.test_sizes import all_kinds
@@ -75,12 +75,7 @@ def moved_by_words(n, kinds, part):
 
 def is_paper_by_words(n, kinds, part, value):
     """Return whether value is a paper of kinds and a part table, by [F4]."""
-    if type(value) is not tuple or len(value) != 2 or type(value[0]) is not str:
-        return False
-    if value[0] == "moved":
-        lots = [lot for lot in moved_by_words(n, kinds, part) if lot == value[1]]
-        return len(lots) == 1 and all(type(place) is int for place in value[1])
-    return value[0] == "signs" and spots_bar(n, kinds, told_by_words(n, part), value[1])
+    return is_paper_of(n, kinds, moved_by_words(n, kinds, part), told_by_words(n, part), value)
 
 
 def can_be_finished(n, kinds, part):
